@@ -87,27 +87,28 @@ func TestP132Size(t *testing.T) {
 	refused(t, "a point of another size", tree, api.ErrKey)
 }
 
-// Of a key the first OID is looked at, then the bits, then the second OID, then what the bits hold.
+// Of a key it is looked at whether the first OID is right, then the bits, then whether the first OID is known, then the second OID, then what the bits hold.
 func TestP132Order(t *testing.T) {
 	unknown, broken := "2b 81 04 07", "2b 81"
 	wrongBits := []string{"", "01", "08 04 07 4b", "01 04 07 4b", "01 04 07 b0"}
 	for _, bits := range wrongBits {
 		refused(t, "bits that are wrong, a curve that is unknown", fullPoint().set("point", bits).set("curve oid", unknown), api.ErrCert)
 		refusedOn(t, "bits that are wrong, no curves", fullPoint().set("point", bits).form(), nil, api.ErrCert)
-		refused(t, "a kind that is unknown, bits that are wrong", fullPoint().set("point", bits).set("kind oid", unknown), api.ErrAlg)
-		refused(t, "a kind that is unknown, bits that are wrong, a curve that is", fullPoint().set("point", bits).set("kind oid", unknown).set("curve oid", broken), api.ErrAlg)
-		refused(t, "no NULL, bits that are wrong", fullPower().set("powers", bits).put("kind null"), api.ErrAlg)
+		refused(t, "a kind that is unknown, bits that are wrong", fullPoint().set("point", bits).set("kind oid", unknown), api.ErrCert)
+		refused(t, "a kind that is unknown, bits that are wrong, a curve that is", fullPoint().set("point", bits).set("kind oid", unknown).set("curve oid", broken), api.ErrCert)
+		refused(t, "no NULL, bits that are wrong", fullPower().set("powers", bits).set("kind null", "00"), api.ErrCert)
 		refused(t, "a kind that is wrong, bits too", fullPoint().set("point", bits).set("kind oid", broken), api.ErrCert)
 	}
 	for _, tag := range []byte{2, 4, 0x30, 0x23} {
 		refused(t, "no bits, a curve that is unknown", fullPoint().tagged("point", tag).set("curve oid", unknown), api.ErrCert)
-		refused(t, "a kind that is unknown, no bits", fullPoint().tagged("point", tag).set("kind oid", unknown), api.ErrAlg)
+		refused(t, "a kind that is unknown, no bits", fullPoint().tagged("point", tag).set("kind oid", unknown), api.ErrCert)
 	}
 	for _, bits := range []string{"00", "00 04 07 4a", "00 04 07", "00 05 07 4b"} {
 		refused(t, "a curve that is unknown, bits of no point", fullPoint().set("point", bits).set("curve oid", unknown), api.ErrAlg)
 		refusedOn(t, "no curves, bits of no point", fullPoint().set("point", bits).form(), nil, api.ErrAlg)
 		refused(t, "a curve that is wrong, bits of no point", fullPoint().set("point", bits).set("curve oid", broken), api.ErrCert)
 		refused(t, "a kind that is unknown, bits of no point", fullPoint().set("point", bits).set("kind oid", unknown), api.ErrAlg)
-		refused(t, "no NULL, bits of no numbers", fullPower().set("powers", bits).put("kind null"), api.ErrAlg)
+		refused(t, "a kind that is unknown, bits of no point, a curve that is wrong", fullPoint().set("point", bits).set("kind oid", unknown).set("curve oid", broken), api.ErrAlg)
+		refused(t, "no NULL, bits of no numbers", fullPower().set("powers", bits).set("kind null", "00"), api.ErrAlg)
 	}
 }

@@ -1,6 +1,7 @@
 package cert
 
 import (
+	"math"
 	"slices"
 
 	"latchkey/api"
@@ -9,21 +10,24 @@ import (
 )
 
 const (
-	fewestOfExt = 2
-	mostOfExt   = 3 // with what says that it is critical
-	mostOfCa    = 2
-	pathSize    = 1
-	modelSize   = 16
-	signBit     = 0x04
+	fewestOfExts = 1
+	mostOfExts   = math.MaxInt
+	fewestOfExt  = 2
+	mostOfExt    = 3 // with what says that it is critical
+	mostOfCa     = 2
+	pathSize     = 1
+	modelSize    = 16
+	signBit      = 0x04
 )
 
-// readExts: all extensions, one by one.
+// readExts: all extensions, one by one. That one piece stands around them is the body's grammar; what that piece is, is theirs.
 func (r *reading) readExts(t api.Tlv) api.Errno {
-	if t.Tag != tExts {
+	all, ok := onlyPiece(t.Body)
+	if !ok || t.Tag != tExts {
 		return api.ErrCert
 	}
-	l, err := der.Seq(t.Body)
-	if err != api.OK || len(l) == 0 {
+	l, ok := pieces(all, fewestOfExts, mostOfExts)
+	if !ok {
 		return api.ErrExt
 	}
 	for _, one := range l {

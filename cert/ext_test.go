@@ -59,9 +59,13 @@ func each(oid, octets string, do func(what string, one *node)) {
 func TestP131NoExtensions(t *testing.T) {
 	parses(t, "none at all", barePoint(), told{path: -1}.cert(barePoint()))
 	refused(t, "an empty sequence", barePoint().having(), api.ErrExt)
-	for _, body := range []string{"", "00", "05 00", "30", "30 00", "30 00 30 00", "31 00", "30 02 05 00", "30 02 30 00", "30 04 30 02 05 00"} {
-		for _, tree := range []*node{fullPoint(), fullPower()} {
-			refused(t, "extensions: "+body, tree.set("exts", body), api.ErrExt)
+	for _, tree := range []func() *node{fullPoint, fullPower} {
+		for _, body := range []string{"05 00", "30 00", "31 00", "04 00", "02 01 05", "30 01 30", "30 02 05 00", "30 02 30 00", "30 04 30 02 05 00", "30 01 00"} {
+			refused(t, "extensions: "+body, tree().set("exts", body), api.ErrExt)
+		}
+		list := hex.EncodeToString(tree().at("ext list").form())
+		for _, body := range []string{"", "00", "30", "05", "30 01", "30 81 00", "1f 00", "30 00 30 00", "05 00 05 00", "30 00 00", "05 00" + list, list + list, list + "05 00", list + "01", list + "00", list[2:]} {
+			refused(t, "not one piece: "+body, tree().set("exts", body), api.ErrCert)
 		}
 	}
 }

@@ -181,8 +181,7 @@ func judge(b []byte, curves []api.Curve) (c api.Cert, err api.Errno) {
 	c.From, c.To = times[0].seconds(), times[1].seconds()
 	c.Key = judgeKey(body[6], curves)
 	if len(body) == 8 {
-		need(body[7].tag == 0xa3, api.ErrCert)
-		judgeExts(&c, body[7].body)
+		judgeExts(&c, within(body[7], 0xa3, api.ErrCert, 1)[0])
 	}
 	c.Sig = outer[2].wholeBits(api.ErrCert)
 	return c, api.OK
@@ -200,11 +199,10 @@ func judgeAlg(p bit) int64 {
 
 func judgeKey(p bit, curves []api.Curve) api.Key {
 	l := within(p, 0x30, api.ErrCert, 2)
-	kind := within(l[0], 0x30, api.ErrCert, 1, 2)
-	switch kind[0].dotted(api.ErrCert) {
+	kind := within(l[0], 0x30, api.ErrCert, 2)
+	first, bits := kind[0].dotted(api.ErrCert), l[1].wholeBits(api.ErrCert)
+	switch first {
 	case "1.2.840.10045.2.1":
-		bits := l[1].wholeBits(api.ErrCert)
-		need(len(kind) == 2, api.ErrCert)
 		name := kind[1].dotted(api.ErrCert)
 		for place, c := range curves {
 			if dottedOf(c) == name {
@@ -212,8 +210,8 @@ func judgeKey(p bit, curves []api.Curve) api.Key {
 			}
 		}
 	case "1.2.840.113549.1.1.1":
-		need(len(kind) == 2 && kind[1].tag == 5 && len(kind[1].body) == 0, api.ErrAlg)
-		return judgePowers(l[1].wholeBits(api.ErrCert))
+		need(kind[1].tag == 5 && len(kind[1].body) == 0, api.ErrAlg)
+		return judgePowers(bits)
 	}
 	panic(stop(api.ErrAlg))
 }
@@ -239,10 +237,9 @@ func judgePowers(bits []byte) api.Key {
 	return api.Key{Kind: api.KRsa, Rsa: api.RsaKey{N: limbsOf(n), E: limbsOf(e)}}
 }
 
-// judgeExts: a fault in what stands within is ErrExt, whatever it is.
-func judgeExts(c *api.Cert, b []byte) {
-	list := bit{0x30, one(b, 0x30, api.ErrExt)}
-	l := cut(list.body, api.ErrExt)
+// judgeExts: a fault in the piece that A3 holds is ErrExt, whatever it is.
+func judgeExts(c *api.Cert, p bit) {
+	l := cut(p.expect(0x30, api.ErrExt), api.ErrExt)
 	need(len(l) > 0, api.ErrExt)
 	octets := map[string][]byte{}
 	for _, p := range l {
@@ -315,11 +312,13 @@ func TestJudgeAgrees(t *testing.T) {
 	if judged(t, "version 1", unbase(oldest), three()) != api.ErrCert {
 		t.Error("a certificate of version 1")
 	}
-	for _, f := range faults() {
-		tree := faulty(false)
-		f.do(tree)
-		if judged(t, f.what, tree.form(), three()) != f.want {
-			t.Error(f.what)
+	for _, byPowers := range []bool{false, true} {
+		for _, f := range faultsOf(byPowers) {
+			tree := faulty(byPowers)
+			f.do(tree)
+			if judged(t, f.what, tree.form(), three()) != f.want {
+				t.Error(f.what)
+			}
 		}
 	}
 }

@@ -11,23 +11,28 @@ import (
 )
 
 const (
-	keyPieces     = 2
-	numberPieces  = 2
-	fewestOfNamed = 1
-	mostOfNamed   = 2
-	pointMark     = 4 // stands ahead of a point's two numbers
+	fewestOfAlg  = 1
+	mostOfAlg    = 2 // with NULL
+	keyPieces    = 2
+	kindPieces   = 2
+	numberPieces = 2
+	pointMark    = 4 // stands ahead of a point's two numbers
 )
 
 // readAlg: by what it is signed.
 func (r *reading) readAlg(t api.Tlv) api.Errno {
-	oid, more, ok := named(t)
+	l, ok := pieces(t, fewestOfAlg, mostOfAlg)
 	if !ok {
 		return api.ErrCert
 	}
+	oid, err := der.Oid(l[0])
+	if err != api.OK {
+		return api.ErrCert
+	}
 	switch {
-	case isRow(oid, 1, 2, 840, 10045, 4, 3, 2) && len(more) == 0:
+	case isRow(oid, 1, 2, 840, 10045, 4, 3, 2) && len(l) == fewestOfAlg:
 		r.Alg = 0
-	case isRow(oid, 1, 2, 840, 113549, 1, 1, 11) && isNull(more):
+	case isRow(oid, 1, 2, 840, 113549, 1, 1, 11) && len(l) == mostOfAlg && isNull(l[1]):
 		r.Alg = api.AlgRsa
 	default:
 		return api.ErrAlg
@@ -35,32 +40,36 @@ func (r *reading) readAlg(t api.Tlv) api.Errno {
 	return api.OK
 }
 
-// readKey: whose key it is.
+// readKey: whose key it is. All that both kinds have in common must be right ahead of what kind it is.
 func (r *reading) readKey(t api.Tlv) api.Errno {
 	l, ok := pieces(t, keyPieces, keyPieces)
 	if !ok {
 		return api.ErrCert
 	}
-	oid, more, ok := named(l[0])
+	kind, ok := pieces(l[0], kindPieces, kindPieces)
+	if !ok {
+		return api.ErrCert
+	}
+	oid, err := der.Oid(kind[0])
+	if err != api.OK {
+		return api.ErrCert
+	}
+	bits, ok := wholeBits(l[1])
 	if !ok {
 		return api.ErrCert
 	}
 	switch {
 	case isRow(oid, 1, 2, 840, 10045, 2, 1):
-		return r.readPoint(more, l[1])
-	case isRow(oid, 1, 2, 840, 113549, 1, 1, 1) && isNull(more):
-		return r.readPowers(l[1])
+		return r.readPoint(kind[1], bits)
+	case isRow(oid, 1, 2, 840, 113549, 1, 1, 1) && isNull(kind[1]):
+		return r.readPowers(bits)
 	}
 	return api.ErrAlg
 }
 
-// readPoint: a key by points, of the curve that more names. That the bits are some comes ahead of the curve, as the chapter has it.
-func (r *reading) readPoint(more []api.Tlv, t api.Tlv) api.Errno {
-	bits, ok := wholeBits(t)
-	if !ok || len(more) == 0 {
-		return api.ErrCert
-	}
-	oid, err := der.Oid(more[0])
+// readPoint: a key by points, of the curve that name tells.
+func (r *reading) readPoint(name api.Tlv, bits []byte) api.Errno {
+	oid, err := der.Oid(name)
 	if err != api.OK {
 		return api.ErrCert
 	}
@@ -78,11 +87,7 @@ func (r *reading) readPoint(more []api.Tlv, t api.Tlv) api.Errno {
 }
 
 // readPowers: a key by powers.
-func (r *reading) readPowers(t api.Tlv) api.Errno {
-	bits, ok := wholeBits(t)
-	if !ok {
-		return api.ErrCert
-	}
+func (r *reading) readPowers(bits []byte) api.Errno {
 	l, err := der.Seq(bits)
 	if err != api.OK || len(l) != numberPieces {
 		return api.ErrKey
@@ -96,17 +101,7 @@ func (r *reading) readPowers(t api.Tlv) api.Errno {
 	return rsa.Check(r.Key.Rsa)
 }
 
-// named: a sequence's OID, and the piece behind it, if there is one; false: it is no such sequence.
-func named(t api.Tlv) (oid []uint64, more []api.Tlv, ok bool) {
-	l, ok := pieces(t, fewestOfNamed, mostOfNamed)
-	if !ok {
-		return nil, nil, false
-	}
-	oid, err := der.Oid(l[0])
-	return oid, l[1:], err == api.OK
-}
-
-// isNull: whether just a NULL stands behind an OID.
-func isNull(more []api.Tlv) bool {
-	return len(more) == 1 && more[0].Tag == der.TNull && len(more[0].Body) == 0
+// isNull: whether it is a NULL.
+func isNull(t api.Tlv) bool {
+	return t.Tag == der.TNull && len(t.Body) == 0
 }

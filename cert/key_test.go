@@ -106,9 +106,13 @@ func TestP131KeysOfOtherKinds(t *testing.T) {
 		{1, 2, 840, 10045, 2}, {1, 2, 840, 10045, 2, 2}, {1, 2, 840, 10045, 2, 1, 0}, {1, 2, 840, 10045, 4, 3, 2}, {1, 3, 132, 112}, {1, 2, 840, 10040, 4, 1},
 		{1, 2, 840, 113549, 1, 1}, {1, 2, 840, 113549, 1, 1, 2}, {1, 2, 840, 113549, 1, 1, 10}, {1, 2, 840, 113549, 1, 1, 11}, {1, 2, 840, 113549, 1, 1, 1, 0}, {1, 3, 101, 112}, {1, 3, 132, 0}, {0, 0},
 	} {
-		for _, more := range [][]byte{nil, null(), seq(), curveOid} {
+		for _, more := range [][]byte{null(), seq(), curveOid, piece(6), piece(6, 0x2a, 0x86), piece(3, 8)} {
 			refused(t, fmt.Sprint("kind ", oid), withKind(fullPoint(), oidOf(oid...), more), api.ErrAlg)
 			refused(t, fmt.Sprint("kind ", oid), withKind(fullPower(), oidOf(oid...), more), api.ErrAlg)
+		}
+		for _, more := range [][]byte{nil, {0}, {5}, slices.Concat(null(), null()), slices.Concat(curveOid, null())} {
+			refused(t, fmt.Sprint("kind, not of two pieces: ", oid), withKind(fullPoint(), oidOf(oid...), more), api.ErrCert)
+			refused(t, fmt.Sprint("kind, not of two pieces: ", oid), withKind(fullPower(), oidOf(oid...), more), api.ErrCert)
 		}
 	}
 }
@@ -122,9 +126,9 @@ func TestP131Kinds(t *testing.T) {
 	refused(t, "powers with a point's bits", withKind(fullPoint(), powers, null()), api.ErrKey)
 
 	for what, l := range map[string][][]byte{
-		"powers alone":               {powers},
 		"powers with INTEGER":        {powers, piece(2, 5)},
 		"powers with a curve":        {powers, curveOid},
+		"powers with no right OID":   {powers, piece(6)},
 		"powers with a NULL of body": {powers, piece(5, 0)},
 		"powers with a sequence":     {powers, seq()},
 	} {
@@ -133,6 +137,9 @@ func TestP131Kinds(t *testing.T) {
 	for what, l := range map[string][][]byte{
 		"nothing":             nil,
 		"points alone":        {points},
+		"powers alone":        {powers},
+		"a curve alone":       {curveOid},
+		"another alone":       {oidOf(1, 3, 101, 112)},
 		"points with NULL":    {points, null()},
 		"points, three":       {points, curveOid, null()},
 		"points, two curves":  {points, curveOid, curveOid},
@@ -149,11 +156,36 @@ func TestP131Kinds(t *testing.T) {
 		"no pieces":           {{0x06, 0x07, 0x2a}},
 	} {
 		refused(t, what, withKind(fullPoint(), l...), api.ErrCert)
+		refused(t, what, withKind(fullPower(), l...), api.ErrCert)
 	}
 	for tag := range 256 {
 		if tag != 0x30 {
 			refused(t, "a key's tag", fullPoint().tagged("key", byte(tag)), api.ErrCert)
 			refused(t, "a kind's tag", fullPower().tagged("kind", byte(tag)), api.ErrCert)
+		}
+	}
+}
+
+// That the second piece is a BIT STRING is asked ahead of which kind and which curve it is.
+func TestP131BitsAheadOfKind(t *testing.T) {
+	points, powers, curveOid := piece(6, unhex(kindPoints)...), piece(6, unhex(kindPowers)...), piece(6, unhex(onSmall)...)
+	noBits := [][]byte{null(), piece(4, 0, 4, 7, 0x4b), piece(3), piece(3, 1), piece(3, 8, 4), piece(3, 1, 3), piece(3, 4, 4, 7, 0xb0), seq(), piece(0x23, 0, 4, 7, 0x4b)}
+	for what, kind := range map[string][]byte{
+		"another, NULL":          slices.Concat(oidOf(1, 2, 3), null()),
+		"another, a curve":       slices.Concat(oidOf(1, 2, 3), curveOid),
+		"another, no right OID":  slices.Concat(oidOf(1, 2, 3), piece(6)),
+		"a curve, NULL":          slices.Concat(curveOid, null()),
+		"powers, a curve":        slices.Concat(powers, curveOid),
+		"powers, a NULL of body": slices.Concat(powers, piece(5, 0)),
+		"powers, NULL":           slices.Concat(powers, null()),
+		"points, NULL":           slices.Concat(points, null()),
+		"points, another curve":  slices.Concat(points, oidOf(1, 2, 3)),
+		"points, a curve":        slices.Concat(points, curveOid),
+	} {
+		for _, bits := range noBits {
+			body := hex.EncodeToString(slices.Concat(seq(kind), bits))
+			refused(t, fmt.Sprintf("%s, %x", what, bits), fullPoint().set("key", body), api.ErrCert)
+			refused(t, fmt.Sprintf("%s, %x", what, bits), fullPower().set("key", body), api.ErrCert)
 		}
 	}
 }

@@ -86,9 +86,9 @@ func changesOfAll() []change {
 	for _, name := range []string{"from", "to"} {
 		out = append(out, change{name, api.ErrCert, api.ErrCert, api.ErrTime})
 	}
-	// An extension's tag and those within are extensions that aren't so.
-	out = append(out, change{"exts", api.OK, api.ErrCert, api.ErrCert})
-	for _, name := range []string{"ext list", "ca oid", "ca octets", "ca list", "ca true", "use oid", "use octets", "use bits", "model oid", "model octets", "model bytes", "other oid", "other octets"} {
+	// A3 and how many pieces it holds are the body's; the piece that it holds, and those within, are extensions.
+	out = append(out, change{"exts", api.OK, api.ErrCert, api.ErrCert}, change{"ext list", api.ErrCert, api.ErrCert, api.ErrExt})
+	for _, name := range []string{"ca oid", "ca octets", "ca list", "ca true", "use oid", "use octets", "use bits", "model oid", "model octets", "model bytes", "other oid", "other octets"} {
 		out = append(out, change{name, api.ErrExt, api.ErrExt, api.ErrExt})
 	}
 	for _, name := range []string{"ca", "use", "model", "other", "ca critical", "use critical", "path"} {
@@ -98,10 +98,10 @@ func changesOfAll() []change {
 	return append(out, change{"other list", api.OK, api.OK, api.OK})
 }
 
-// changesOfPoint: those of a key by points. Without its first OID the second one is the first.
+// changesOfPoint: those of a key by points.
 func changesOfPoint() []change {
 	return []change{
-		{"kind oid", api.ErrAlg, api.ErrCert, api.ErrCert},
+		{"kind oid", api.ErrCert, api.ErrCert, api.ErrCert},
 		{"curve oid", api.ErrCert, api.ErrCert, api.ErrCert},
 		{"point", api.ErrCert, api.ErrCert, api.ErrCert},
 	}
@@ -111,7 +111,7 @@ func changesOfPoint() []change {
 func changesOfPower() []change {
 	out := []change{
 		{"kind oid", api.ErrCert, api.ErrCert, api.ErrCert},
-		{"kind null", api.ErrAlg, api.ErrCert, api.ErrAlg},
+		{"kind null", api.ErrCert, api.ErrCert, api.ErrAlg},
 		{"powers", api.ErrCert, api.ErrCert, api.ErrCert},
 		{"alg null", api.ErrCert, api.ErrCert, api.ErrCert},
 		{"outer alg null", api.ErrCert, api.ErrCert, api.ErrCert},
@@ -180,8 +180,8 @@ func TestP131OneMorePiece(t *testing.T) {
 			want api.Errno
 		}{
 			{"certificate", api.ErrCert}, {"body", api.ErrCert}, {"version", api.ErrCert}, {"alg", api.ErrCert}, {"outer alg", api.ErrCert},
-			{"times", api.ErrCert}, {"key", api.ErrCert}, {"kind", api.ErrCert},
-			{"exts", api.ErrExt}, {"ext list", api.ErrExt}, {"ca", api.ErrExt}, {"use", api.ErrExt}, {"model", api.ErrExt}, {"other", api.ErrExt},
+			{"times", api.ErrCert}, {"key", api.ErrCert}, {"kind", api.ErrCert}, {"exts", api.ErrCert},
+			{"ext list", api.ErrExt}, {"ca", api.ErrExt}, {"use", api.ErrExt}, {"model", api.ErrExt}, {"other", api.ErrExt},
 			{"ca octets", api.ErrExt}, {"ca list", api.ErrExt}, {"use octets", api.ErrExt}, {"model octets", api.ErrExt},
 		} {
 			refused(t, fmt.Sprintf("%s with %x more", c.name, more.form()), fullPoint().add(c.name, more), c.want)
@@ -200,7 +200,7 @@ func TestP131NoPieces(t *testing.T) {
 			want api.Errno
 		}{
 			{"certificate", api.ErrCert}, {"body", api.ErrCert}, {"version", api.ErrCert}, {"times", api.ErrCert}, {"key", api.ErrCert}, {"kind", api.ErrCert}, {"numbers", api.ErrKey},
-			{"exts", api.ErrExt}, {"ext list", api.ErrExt}, {"ca", api.ErrExt}, {"use", api.ErrExt}, {"model", api.ErrExt}, {"other", api.ErrExt},
+			{"exts", api.ErrCert}, {"ext list", api.ErrExt}, {"ca", api.ErrExt}, {"use", api.ErrExt}, {"model", api.ErrExt}, {"other", api.ErrExt},
 			{"ca octets", api.ErrExt}, {"ca list", api.ErrExt}, {"use octets", api.ErrExt}, {"model octets", api.ErrExt},
 		} {
 			refused(t, c.name+" of "+body, fullPower().set(c.name, body), c.want)
